@@ -1,0 +1,159 @@
+"""[0]: what is handed in is neither changed nor kept, what is told is the asker's own."""
+
+import copy
+import unittest
+
+from loomwright import draft, groups, words
+from loomwright.errors import BadDraft, BadWord
+
+
+def anything(item):
+    return True
+
+
+def draft_parts():
+    return [3, 2, [1, 0, 3], [[1, 3], []], [[1], [], [1, 2]], ["a", "b", "c"], ["d", "e", "f"]]
+
+
+def changed_within(thing):
+    """Changes every list of what is handed in, also those within others."""
+    if isinstance(thing, (list, tuple)):
+        for member in thing:
+            changed_within(member)
+    if isinstance(thing, list):
+        thing.reverse()
+        thing.append("changed")
+
+
+# Each function of the stage, with a list wherever one can be handed in.
+CALLS = (
+    (words.is_whole, ([1, [2]],)),
+    (words.is_whole, (1,)),
+    (words.is_among, ([1, [2]], 0, 9)),
+    (words.is_among, (1, 0, 9)),
+    (words.is_colour, (["a", ["b"]],)),
+    (words.is_colour, ("a",)),
+    (words.number_of, (["1", ["2"]],)),
+    (words.number_of, ("12",)),
+    (words.number_text, (12,)),
+    (words.words_of, (["a b", ["c"]],)),
+    (words.words_of, ("a b c",)),
+    (groups.spread, (["a", "b"], 60, anything)),
+    (groups.spread, (["2(", "a", "3(", "b", ")", ")"], 60, anything)),
+    (groups.gathered, (["a"],)),
+    (groups.gathered, (["a", "b", "a"],)),
+    (groups.gathered, (list("aaaabaaaab"),)),
+)
+
+
+class Functions(unittest.TestCase):
+    def test_what_is_handed_in_is_not_changed(self):
+        for function, given in CALLS:
+            handed = copy.deepcopy(given)
+            function(*handed)
+            self.assertEqual(handed, given, function)
+
+    def test_what_is_handed_in_is_not_kept(self):
+        for function, given in CALLS:
+            handed = copy.deepcopy(given)
+            told = function(*handed)
+            before = copy.deepcopy(told)
+            changed_within(handed)
+            self.assertEqual(told, before, function)
+            self.assertEqual(function(*copy.deepcopy(given)), before, function)
+
+    def test_what_is_told_is_the_askers_own(self):
+        for function, given in CALLS:
+            handed = copy.deepcopy(given)
+            told = function(*handed)
+            before = copy.deepcopy(told)
+            changed_within(told)
+            self.assertEqual(handed, given, function)
+            self.assertEqual(function(*handed), before, function)
+
+    def test_what_is_told_twice_is_not_shared(self):
+        for function, given in CALLS:
+            one = function(*copy.deepcopy(given))
+            other = function(*copy.deepcopy(given))
+            if isinstance(one, list):
+                self.assertIsNot(one, other, function)
+
+    def test_what_is_refused_is_not_changed(self):
+        for row in (["2(", "a", "b"], ["2(", "a", ")", ")"], ["a"] * 9, ["2(", "1(", "a"]):
+            handed = list(row)
+            with self.assertRaises(BadWord):
+                groups.spread(handed, 5, anything)
+            self.assertEqual(handed, row)
+            self.assertEqual(groups.spread(["a", "b"], 5, anything), ["a", "b"])
+
+    def test_a_row_changed_while_it_is_spread(self):
+        # The words count as they were handed in, whatever the asker's own closure does.
+        row = ["a", "2(", "b", ")"]
+
+        def fits(item):
+            row.clear()
+            return True
+
+        self.assertEqual(groups.spread(row, 60, fits), ["a", "b", "b"])
+
+
+class Drafts(unittest.TestCase):
+    def test_what_is_handed_in_is_not_changed(self):
+        handed = draft_parts()
+        made = draft.Draft(*handed)
+        made.told(), made.ends(), made.picks()
+        self.assertEqual(handed, draft_parts())
+
+    def test_what_is_handed_in_is_not_kept(self):
+        for place in range(2, 7):
+            handed = draft_parts()
+            made = draft.Draft(*handed)
+            changed_within(handed[place])
+            self.assertEqual(made.told(), tuple(draft_parts()), place)
+            self.assertEqual((made.ends(), made.picks()), (3, 3))
+
+    def test_lists_within_are_not_kept(self):
+        handed = draft_parts()
+        made = draft.Draft(*handed)
+        handed[3][1].append(2)
+        handed[4][0].clear()
+        handed[4][1].append(2)
+        self.assertEqual(made.told(), tuple(draft_parts()))
+
+    def test_what_is_told_is_the_askers_own(self):
+        made = draft.Draft(*draft_parts())
+        for place in range(2, 7):
+            told = made.told()
+            changed_within(told[place])
+            self.assertEqual(made.told(), tuple(draft_parts()), place)
+            self.assertEqual((made.ends(), made.picks()), (3, 3))
+
+    def test_what_was_told_stays(self):
+        made = draft.Draft(*draft_parts())
+        one, other = made.told(), made.told()
+        changed_within(one)
+        self.assertEqual(other, tuple(draft_parts()))
+
+    def test_alike_lists_are_told_as_lists_of_their_own(self):
+        tie, pick = [1], [1, 2]
+        told = draft.Draft(1, 2, [1], [tie, tie], [pick, pick], ["a"], ["b", "c"]).told()
+        told[3][0].append(9)
+        told[4][0].append(9)
+        self.assertEqual(told[3][1], [1])
+        self.assertEqual(told[4][1], [1, 2])
+
+    def test_drafts_of_the_same_lists_share_nothing(self):
+        handed = draft_parts()
+        one, other = draft.Draft(*handed), draft.Draft(*handed)
+        changed_within(one.told())
+        changed_within(handed)
+        self.assertEqual(other.told(), tuple(draft_parts()))
+
+    def test_what_is_refused_is_not_changed(self):
+        for place in range(7):
+            handed = draft_parts()
+            handed[place] = ["a", [3, 1], ("b",)]
+            before = copy.deepcopy(handed)
+            with self.assertRaises(BadDraft):
+                draft.Draft(*handed)
+            self.assertEqual(handed, before)
