@@ -1,12 +1,8 @@
 """Drafts: how a cloth is woven."""
 
+from loomwright.bounds import MOST_ENDS, MOST_PICKS, MOST_SHAFTS, MOST_TREADLES
 from loomwright.errors import BadDraft
 from loomwright.words import is_among, is_colour
-
-MOST_SHAFTS = 16
-MOST_TREADLES = 16
-MOST_ENDS = 60
-MOST_PICKS = 60
 
 
 def need(holds, words):

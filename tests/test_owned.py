@@ -3,8 +3,9 @@
 import copy
 import unittest
 
-from loomwright import draft, groups, words
-from loomwright.errors import BadDraft, BadWord
+from loomwright import cloth, clothtext, draft, drafttext, groups, weaving, words
+from loomwright.errors import BadCloth, BadDraft, BadWord
+from tests.makers import plain
 
 
 def anything(item):
@@ -16,7 +17,9 @@ def draft_parts():
 
 
 def changed_within(thing):
-    """Changes every list of what is handed in, also those within others."""
+    """Changes every list of what is handed in or told, also those within others, and those that objects tell."""
+    if isinstance(thing, (draft.Draft, cloth.Cloth)):
+        changed_within(thing.told())
     if isinstance(thing, (list, tuple)):
         for member in thing:
             changed_within(member)
@@ -25,7 +28,24 @@ def changed_within(thing):
         thing.append("changed")
 
 
-# Each function of the stage, with a list wherever one can be handed in.
+def parts_within(thing):
+    """Every list, draft and cloth of what is handed in or told."""
+    if isinstance(thing, (list, draft.Draft, cloth.Cloth)):
+        yield thing
+    if isinstance(thing, (list, tuple)):
+        for member in thing:
+            yield from parts_within(member)
+
+
+def a_draft():
+    return draft.Draft(*draft_parts())
+
+
+def a_cloth():
+    return cloth.Cloth(3, [0b101, 0b010, 0b011, 0b000])
+
+
+# Each function of the program, with a list wherever one can be handed in.
 CALLS = (
     (words.is_whole, ([1, [2]],)),
     (words.is_whole, (1,)),
@@ -43,6 +63,13 @@ CALLS = (
     (groups.gathered, (["a"],)),
     (groups.gathered, (["a", "b", "a"],)),
     (groups.gathered, (list("aaaabaaaab"),)),
+    (drafttext.draft_text, (a_draft(),)),
+    (drafttext.read_draft, (drafttext.draft_text(a_draft()),)),
+    (cloth.from_behind, (a_cloth(),)),
+    (clothtext.cloth_text, (a_cloth(),)),
+    (clothtext.read_cloth, ("#.#\n.#.",)),
+    (weaving.lifts_of, (a_draft(),)),
+    (weaving.woven, (a_draft(),)),
 )
 
 
@@ -51,32 +78,41 @@ class Functions(unittest.TestCase):
         for function, given in CALLS:
             handed = copy.deepcopy(given)
             function(*handed)
-            self.assertEqual(handed, given, function)
+            self.assertEqual(plain(handed), plain(given), function)
 
     def test_what_is_handed_in_is_not_kept(self):
         for function, given in CALLS:
             handed = copy.deepcopy(given)
             told = function(*handed)
-            before = copy.deepcopy(told)
+            before = plain(told)
             changed_within(handed)
-            self.assertEqual(told, before, function)
-            self.assertEqual(function(*copy.deepcopy(given)), before, function)
+            self.assertEqual(plain(told), before, function)
+            self.assertEqual(plain(function(*copy.deepcopy(given))), before, function)
 
     def test_what_is_told_is_the_askers_own(self):
         for function, given in CALLS:
             handed = copy.deepcopy(given)
             told = function(*handed)
-            before = copy.deepcopy(told)
+            before = copy.deepcopy(plain(told))
             changed_within(told)
-            self.assertEqual(handed, given, function)
-            self.assertEqual(function(*handed), before, function)
+            self.assertEqual(plain(handed), plain(given), function)
+            self.assertEqual(plain(function(*handed)), before, function)
 
     def test_what_is_told_twice_is_not_shared(self):
         for function, given in CALLS:
-            one = function(*copy.deepcopy(given))
-            other = function(*copy.deepcopy(given))
-            if isinstance(one, list):
+            handed = copy.deepcopy(given)
+            one, other = function(*handed), function(*handed)
+            if isinstance(one, (list, draft.Draft, cloth.Cloth)):
                 self.assertIsNot(one, other, function)
+            before = copy.deepcopy(plain(other))
+            changed_within(one)
+            self.assertEqual(plain(other), before, function)
+
+    def test_nothing_told_is_what_was_handed_in(self):
+        for function, given in CALLS:
+            handed = copy.deepcopy(given)
+            for part in parts_within(function(*handed)):
+                self.assertFalse(any(part is other for other in parts_within(handed)), function)
 
     def test_what_is_refused_is_not_changed(self):
         for row in (["2(", "a", "b"], ["2(", "a", ")", ")"], ["a"] * 9, ["2(", "1(", "a"]):
@@ -157,3 +193,33 @@ class Drafts(unittest.TestCase):
             with self.assertRaises(BadDraft):
                 draft.Draft(*handed)
             self.assertEqual(handed, before)
+
+
+class Cloths(unittest.TestCase):
+    def test_what_is_handed_in_is_not_changed(self):
+        rows = [1, 2, 3]
+        made = cloth.Cloth(2, rows)
+        made.told(), made.ends(), made.picks(), made.row_at(1), made.column_at(2), made.is_up(1, 3)
+        self.assertEqual(rows, [1, 2, 3])
+
+    def test_what_is_handed_in_is_not_kept(self):
+        rows = [1, 2, 3]
+        made = cloth.Cloth(2, rows)
+        changed_within(rows)
+        self.assertEqual(made.told(), (2, [1, 2, 3]))
+        self.assertEqual([made.picks(), made.row_at(1), made.column_at(1), made.is_up(1, 2)], [3, 1, 5, False])
+
+    def test_what_is_told_is_the_askers_own(self):
+        made = cloth.Cloth(2, [1, 2, 3])
+        one, other = made.told(), made.told()
+        changed_within(one)
+        self.assertEqual(other, (2, [1, 2, 3]))
+        self.assertEqual(made.told(), (2, [1, 2, 3]))
+        self.assertEqual([made.picks(), made.row_at(1), made.column_at(1), made.is_up(1, 2)], [3, 1, 5, False])
+
+    def test_what_is_refused_is_not_changed(self):
+        for rows in ([4, 0], [0, -1], [None], [[1]], []):
+            handed = copy.deepcopy(rows)
+            with self.assertRaises(BadCloth):
+                cloth.Cloth(2, handed)
+            self.assertEqual(handed, rows)

@@ -1,0 +1,46 @@
+"""The interface: each name of it, with its arguments, in its file."""
+
+import importlib
+import inspect
+import re
+import unittest
+
+INTERFACE = """
+errors: BadRow(row, word) BadWord(place) TooMany(what, many) NotPlain(what, number) NotGrown(row, column)
+words: is_whole(thing) is_among(thing, least, most) is_colour(thing) number_of(word) number_text(number) words_of(row)
+groups: spread(words, most, fits) gathered(items)
+draft: Draft(shafts, treadles, threading, ties, treading, warp, weft) Draft.told() Draft.ends() Draft.picks()
+drafttext: draft_text(draft) read_draft(text)
+cloth: Cloth(ends, rows) Cloth.told() Cloth.ends() Cloth.picks() Cloth.row_at(pick) Cloth.column_at(end)
+cloth: Cloth.is_up(end, pick) from_behind(cloth)
+clothtext: cloth_text(cloth) read_cloth(text)
+weaving: lifts_of(draft) woven(draft)
+"""
+
+
+def interface():
+    """Each name of the interface, as (file, name, text of its arguments)."""
+    for row in INTERFACE.strip().split("\n"):
+        file, names = row.split(": ")
+        for name, given in re.findall(r"([\w.]+)\(([^)]*)\)", names):
+            yield file, name, given
+
+
+def named(file, name):
+    thing = importlib.import_module("loomwright." + file)
+    for part in name.split("."):
+        thing = getattr(thing, part)
+    return thing
+
+
+class Interface(unittest.TestCase):
+    def test_each_name(self):
+        for file, name, given in interface():
+            with self.subTest(file=file, name=name):
+                thing = named(file, name)
+                parameters = [str(parameter) for parameter in inspect.signature(thing).parameters.values()]
+                if "." in name:
+                    self.assertEqual(parameters.pop(0), "self")
+                self.assertEqual(", ".join(parameters), given)
+                self.assertEqual(inspect.isclass(thing), name[0].isupper() and "." not in name)
+                self.assertEqual(thing.__module__, "loomwright." + file)
