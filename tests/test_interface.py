@@ -15,6 +15,10 @@ cloth: Cloth(ends, rows) Cloth.told() Cloth.ends() Cloth.picks() Cloth.row_at(pi
 cloth: Cloth.is_up(end, pick) from_behind(cloth)
 clothtext: cloth_text(cloth) read_cloth(text)
 weaving: lifts_of(draft) woven(draft)
+readoff: kind_numbers(masks) kinds_of(masks) read_off(cloth) fewest_shown(cloth)
+few: few_ties(lifts) trodden_of(lift, ties) fewest_treadles(cloth)
+colours: seen(draft) seen_behind(draft)
+turns: mirrored(cloth) upended(cloth) inverted(cloth) quartered(cloth)
 """
 
 

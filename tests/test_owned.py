@@ -3,7 +3,7 @@
 import copy
 import unittest
 
-from loomwright import cloth, clothtext, draft, drafttext, groups, weaving, words
+from loomwright import cloth, clothtext, colours, draft, drafttext, few, groups, readoff, turns, weaving, words
 from loomwright.errors import BadCloth, BadDraft, BadWord
 from tests.makers import plain
 
@@ -70,6 +70,21 @@ CALLS = (
     (clothtext.read_cloth, ("#.#\n.#.",)),
     (weaving.lifts_of, (a_draft(),)),
     (weaving.woven, (a_draft(),)),
+    (readoff.kind_numbers, ([3, 0, 3, 1],)),
+    (readoff.kinds_of, ([3, 0, 3, 1],)),
+    (readoff.read_off, (a_cloth(),)),
+    (readoff.fewest_shown, (a_cloth(),)),
+    (few.few_ties, ([3, 1, 0, 3],)),
+    (few.trodden_of, (3, [3, 1, 0, 3])),
+    (few.fewest_treadles, (a_cloth(),)),
+    (colours.seen, (a_draft(),)),
+    (colours.seen_behind, (a_draft(),)),
+    (turns.mirrored, (a_cloth(),)),
+    (turns.mirrored, (cloth.Cloth(1, [1]),)),
+    (turns.upended, (a_cloth(),)),
+    (turns.upended, (cloth.Cloth(1, [1]),)),
+    (turns.inverted, (a_cloth(),)),
+    (turns.quartered, (a_cloth(),)),
 )
 
 
