@@ -4,6 +4,8 @@ from loomwright.bounds import MOST_ENDS, MOST_PICKS, MOST_SHAFTS, MOST_TREADLES
 from loomwright.errors import BadDraft
 from loomwright.words import is_among, is_colour
 
+PARTS = ("shafts", "treadles", "threading", "ties", "treading", "warp", "weft")
+
 
 def need(holds, words):
     if not holds:
@@ -75,3 +77,18 @@ class Draft:
 
     def picks(self):
         return len(self.treading)
+
+
+# A new draft like the given one, but for the parts that are handed in by their names.
+def changed_draft(draft, changes):
+    parts = dict(zip(PARTS, draft.told()))
+    parts.update(changes)
+    return Draft(
+        parts["shafts"],
+        parts["treadles"],
+        parts["threading"],
+        parts["ties"],
+        parts["treading"],
+        parts["warp"],
+        parts["weft"],
+    )

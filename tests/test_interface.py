@@ -19,6 +19,10 @@ readoff: kind_numbers(masks) kinds_of(masks) read_off(cloth) fewest_shown(cloth)
 few: few_ties(lifts) trodden_of(lift, ties) fewest_treadles(cloth)
 colours: seen(draft) seen_behind(draft)
 turns: mirrored(cloth) upended(cloth) inverted(cloth) quartered(cloth)
+draftturns: mirrored_draft(draft) upended_draft(draft) need_plain(draft) inverted_draft(draft) quartered_draft(draft)
+joins: beside(one, other) below(one, other) told_over(cloth, across, down) draft_told_over(draft, across, down)
+floats: floats_of(cloth) round_floats(cloth) unbound_of(cloth)
+repeats: least_repeat(cloth) step_of(cloth) sort_of(cloth)
 """
 
 

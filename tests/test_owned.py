@@ -3,7 +3,8 @@
 import copy
 import unittest
 
-from loomwright import cloth, clothtext, colours, draft, drafttext, few, groups, readoff, turns, weaving, words
+from loomwright import cloth, clothtext, colours, draft, drafttext, draftturns, few, floats, groups, joins, readoff
+from loomwright import repeats, turns, weaving, words
 from loomwright.errors import BadCloth, BadDraft, BadWord
 from tests.makers import plain
 
@@ -39,6 +40,10 @@ def parts_within(thing):
 
 def a_draft():
     return draft.Draft(*draft_parts())
+
+
+def plain_draft():
+    return draft.Draft(3, 2, [1, 2, 3], [[1, 3], []], [[1], [2], [1]], ["a", "b", "c"], ["d", "e", "f"])
 
 
 def a_cloth():
@@ -85,6 +90,23 @@ CALLS = (
     (turns.upended, (cloth.Cloth(1, [1]),)),
     (turns.inverted, (a_cloth(),)),
     (turns.quartered, (a_cloth(),)),
+    (draftturns.mirrored_draft, (a_draft(),)),
+    (draftturns.upended_draft, (a_draft(),)),
+    (draftturns.need_plain, (plain_draft(),)),
+    (draftturns.inverted_draft, (plain_draft(),)),
+    (draftturns.quartered_draft, (plain_draft(),)),
+    (joins.beside, (a_cloth(), a_cloth())),
+    (joins.below, (a_cloth(), a_cloth())),
+    (joins.told_over, (a_cloth(), 2, 3)),
+    (joins.told_over, (a_cloth(), 1, 1)),
+    (joins.draft_told_over, (a_draft(), 2, 3)),
+    (joins.draft_told_over, (a_draft(), 1, 1)),
+    (floats.floats_of, (a_cloth(),)),
+    (floats.round_floats, (a_cloth(),)),
+    (floats.unbound_of, (cloth.Cloth(2, [1, 3, 1]),)),
+    (repeats.least_repeat, (a_cloth(),)),
+    (repeats.step_of, (a_cloth(),)),
+    (repeats.sort_of, (a_cloth(),)),
 )
 
 
