@@ -23,6 +23,10 @@ draftturns: mirrored_draft(draft) upended_draft(draft) need_plain(draft) inverte
 joins: beside(one, other) below(one, other) told_over(cloth, across, down) draft_told_over(draft, across, down)
 floats: floats_of(cloth) round_floats(cloth) unbound_of(cloth)
 repeats: least_repeat(cloth) step_of(cloth) sort_of(cloth)
+hanging: over_of(cloth, thread) chain_of(cloth, one, other) hangs(cloth) lifted_with(cloth, thread)
+layers: layers_of(cloth)
+blocks: grown_by(plan, on, off) plan_of(cloth, on, off)
+apart: woven_at_once(cloths) taken_apart(cloth)
 """
 
 

@@ -3,8 +3,8 @@
 import copy
 import unittest
 
-from loomwright import cloth, clothtext, colours, draft, drafttext, draftturns, few, floats, groups, joins, readoff
-from loomwright import repeats, turns, weaving, words
+from loomwright import apart, blocks, cloth, clothtext, colours, draft, drafttext, draftturns, few, floats, groups
+from loomwright import hanging, joins, layers, readoff, repeats, turns, weaving, words
 from loomwright.errors import BadCloth, BadDraft, BadWord
 from tests.makers import plain
 
@@ -107,6 +107,19 @@ CALLS = (
     (repeats.least_repeat, (a_cloth(),)),
     (repeats.step_of, (a_cloth(),)),
     (repeats.sort_of, (a_cloth(),)),
+    (hanging.over_of, (a_cloth(), ("end", 2))),
+    (hanging.over_of, (a_cloth(), ("pick", 1))),
+    (hanging.chain_of, (a_cloth(), ("end", 1), ("end", 3))),
+    (hanging.chain_of, (a_cloth(), ("end", 1), ("end", 1))),
+    (hanging.hangs, (a_cloth(),)),
+    (hanging.lifted_with, (a_cloth(), ("pick", 1))),
+    (layers.layers_of, (a_cloth(),)),
+    (blocks.grown_by, (a_cloth(), cloth.Cloth(2, [1, 2]), cloth.Cloth(2, [3, 0]))),
+    (blocks.plan_of, (cloth.Cloth(2, [1, 2]), cloth.Cloth(1, [1]), cloth.Cloth(1, [0]))),
+    (apart.woven_at_once, ([a_cloth()],)),
+    (apart.woven_at_once, ([a_cloth(), a_cloth()],)),
+    (apart.taken_apart, (a_cloth(),)),
+    (apart.taken_apart, (cloth.Cloth(2, [1, 2]),)),
 )
 
 
