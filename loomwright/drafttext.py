@@ -4,18 +4,10 @@ from loomwright.bounds import MOST_ENDS, MOST_PICKS, MOST_SHAFTS, MOST_TREADLES
 from loomwright.draft import Draft
 from loomwright.errors import BadRow, BadWord
 from loomwright.groups import gathered, spread
-from loomwright.words import is_among, is_colour, number_of, number_text, words_of
+from loomwright.words import is_among, is_colour, number_of, number_text, number_texts, numbers_told, words_of
 
 NONE = "-"
 TOGETHER = "+"
-
-
-def number_texts(numbers):
-    return [number_text(number) for number in numbers]
-
-
-def numbers_told(words):
-    return [number_of(word) for word in words]
 
 
 def tie_words(shafts):

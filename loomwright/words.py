@@ -34,6 +34,15 @@ def number_text(number):
     return str(number)
 
 
+def number_texts(numbers):
+    return [number_text(number) for number in numbers]
+
+
+# A number, or None, for each word.
+def numbers_told(words):
+    return [number_of(word) for word in words]
+
+
 def words_of(row):
     if not isinstance(row, str):
         return None

@@ -27,6 +27,12 @@ hanging: over_of(cloth, thread) chain_of(cloth, one, other) hangs(cloth) lifted_
 layers: layers_of(cloth)
 blocks: grown_by(plan, on, off) plan_of(cloth, on, off)
 apart: woven_at_once(cloths) taken_apart(cloth)
+faults: is_fault(draft, thing) all_faults(draft) found_faults(draft, cloth)
+loom: Loom(draft, fault=None) Loom.step() Loom.pick() Loom.cloth() woven_with(draft, fault)
+hand: Hand(draft) Hand.draft() Hand.cloth() Hand.thread(end, shaft) Hand.tie(treadle, shafts)
+hand: Hand.tread(pick, treadles) Hand.colour(side, number, colour) Hand.put_end(end, shaft, colour)
+hand: Hand.put_pick(pick, treadles, colour) Hand.take_end(end) Hand.take_pick(pick) Hand.undo()
+desk: Desk(text) Desk.say(line)
 """
 
 

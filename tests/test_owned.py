@@ -3,10 +3,11 @@
 import copy
 import unittest
 
-from loomwright import apart, blocks, cloth, clothtext, colours, draft, drafttext, draftturns, few, floats, groups
-from loomwright import hanging, joins, layers, readoff, repeats, turns, weaving, words
-from loomwright.errors import BadCloth, BadDraft, BadWord
+from loomwright import apart, blocks, cloth, clothtext, colours, desk, draft, drafttext, draftturns, faults, few, floats
+from loomwright import groups, hand, hanging, joins, layers, loom, readoff, repeats, turns, weaving, words
+from loomwright.errors import BadCloth, BadDraft, BadRow, BadWord, LoomError, OutOfPlace
 from tests.makers import plain
+from tests.test_interface import interface, named
 
 
 def anything(item):
@@ -120,6 +121,36 @@ CALLS = (
     (apart.woven_at_once, ([a_cloth(), a_cloth()],)),
     (apart.taken_apart, (a_cloth(),)),
     (apart.taken_apart, (cloth.Cloth(2, [1, 2]),)),
+    (faults.is_fault, (a_draft(), ("up", 1))),
+    (faults.is_fault, (a_draft(), ["up", [1]])),
+    (faults.all_faults, (a_draft(),)),
+    (faults.found_faults, (a_draft(), weaving.woven(a_draft()))),
+    (loom.woven_with, (a_draft(), None)),
+    (loom.woven_with, (a_draft(), ("down", 1))),
+)
+
+# What is refused, of each function that refuses: the function, what is handed in, the refusal.
+REFUSALS = (
+    (groups.spread, (["2(", "a"], 60, anything), BadWord),
+    (drafttext.read_draft, (["shafts 1"],), BadRow),
+    (drafttext.read_draft, ("shafts 1",), BadRow),
+    (clothtext.read_cloth, (["#"],), BadRow),
+    (readoff.read_off, (cloth.Cloth(17, [1 << place for place in range(17)]),), LoomError),
+    (few.fewest_treadles, (cloth.Cloth(5, [1, 2, 4, 8, 16]),), LoomError),
+    (draftturns.need_plain, (a_draft(),), LoomError),
+    (draftturns.inverted_draft, (a_draft(),), LoomError),
+    (draftturns.quartered_draft, (a_draft(),), LoomError),
+    (joins.beside, (a_cloth(), cloth.Cloth(1, [1])), BadCloth),
+    (joins.below, (a_cloth(), cloth.Cloth(1, [1])), BadCloth),
+    (joins.told_over, (a_cloth(), 60, 60), BadCloth),
+    (joins.draft_told_over, (a_draft(), 60, 60), BadDraft),
+    (blocks.grown_by, (a_cloth(), a_cloth(), cloth.Cloth(1, [1])), BadCloth),
+    (blocks.plan_of, (a_cloth(), a_cloth(), a_cloth()), BadCloth),
+    (blocks.plan_of, (a_cloth(), cloth.Cloth(3, [1]), cloth.Cloth(3, [2])), LoomError),
+    (apart.woven_at_once, ([a_cloth(), cloth.Cloth(1, [1])],), BadCloth),
+    (loom.woven_with, (a_draft(), ["up", 1]), BadDraft),
+    (loom.Loom, (a_draft(), ["up", [1]]), BadDraft),
+    (desk.Desk, (["shafts 1"],), BadRow),
 )
 
 
@@ -163,6 +194,26 @@ class Functions(unittest.TestCase):
             handed = copy.deepcopy(given)
             for part in parts_within(function(*handed)):
                 self.assertFalse(any(part is other for other in parts_within(handed)), function)
+
+    def test_each_function_of_the_interface_is_called_here(self):
+        called = {function for function, _ in CALLS}
+        for file, name, _ in interface():
+            if "." not in name and name[0].islower():
+                self.assertIn(named(file, name), called)
+
+    def test_what_is_refused_stays(self):
+        for function, given, refusal in REFUSALS:
+            handed = copy.deepcopy(given)
+            with self.assertRaises(refusal):
+                function(*handed)
+            self.assertEqual(plain(handed), plain(given), function)
+
+    def test_a_refusal_changes_no_later_answer(self):
+        told = [plain(function(*copy.deepcopy(given))) for function, given in CALLS]
+        for function, given, refusal in REFUSALS:
+            with self.assertRaises(refusal):
+                function(*copy.deepcopy(given))
+        self.assertEqual([plain(function(*copy.deepcopy(given))) for function, given in CALLS], told)
 
     def test_what_is_refused_is_not_changed(self):
         for row in (["2(", "a", "b"], ["2(", "a", ")", ")"], ["a"] * 9, ["2(", "1(", "a"]):
@@ -273,3 +324,135 @@ class Cloths(unittest.TestCase):
             with self.assertRaises(BadCloth):
                 cloth.Cloth(2, handed)
             self.assertEqual(handed, rows)
+
+
+class Looms(unittest.TestCase):
+    def test_what_is_handed_in_is_neither_changed_nor_kept(self):
+        handed = a_draft()
+        made = loom.Loom(handed, ("down", 1))
+        changed_within(handed)
+        rows = [made.step(), made.step(), made.step(), made.step()]
+        self.assertEqual(handed.told(), tuple(draft_parts()))
+        self.assertEqual(rows[:3], loom.woven_with(a_draft(), ("down", 1)).told()[1])
+        self.assertIsNone(rows[3])
+        # Whatever becomes of the very draft that was handed in.
+        made = loom.Loom(handed)
+        for name in list(vars(handed)):
+            setattr(handed, name, None)
+        self.assertEqual([made.step(), made.step(), made.step()], weaving.woven(a_draft()).told()[1])
+
+    def test_what_is_told_is_the_askers_own(self):
+        made = loom.Loom(a_draft())
+        made.step()
+        one, other = made.cloth(), made.cloth()
+        self.assertIsNot(one, other)
+        changed_within(one)
+        made.step()
+        self.assertEqual(other.picks(), 1)
+        self.assertEqual(made.cloth().told(), (3, weaving.woven(a_draft()).told()[1][:2]))
+
+    def test_what_is_refused_changes_nothing(self):
+        made = loom.Loom(a_draft())
+        for _ in range(2):
+            with self.assertRaises(OutOfPlace):
+                made.cloth()
+            self.assertEqual(made.pick(), 0)
+        self.assertEqual(made.step(), weaving.woven(a_draft()).row_at(1))
+
+
+class Hands(unittest.TestCase):
+    DEEDS = (("thread", 1, 3), ("tie", 2, [2]), ("tread", 2, [1, 2]), ("colour", "warp", 1, "q"), ("put_end", 1, 2, "q"),
+             ("put_pick", 1, [2], "q"), ("take_end", 2), ("take_pick", 2), ("tie", 1, [1, 2, 3]), ("undo",), ("undo",))
+    WRONG = (("thread", 1, [9]), ("tie", 1, [9, [1]]), ("tread", 1, [9, [1]]), ("colour", "warp", 1, ["q"]),
+             ("put_end", 1, [2], ["q"]), ("put_pick", 1, [[2]], ["q"]), ("take_end", [1]), ("take_pick", [1]),
+             ("tie", [1], [1]))
+
+    def test_the_draft_that_is_handed_in(self):
+        handed = a_draft()
+        made = hand.Hand(handed)
+        for deed in self.DEEDS:
+            getattr(made, deed[0])(*copy.deepcopy(deed[1:]))
+            self.assertEqual(handed.told(), tuple(draft_parts()))
+        made = hand.Hand(handed)
+        for name in list(vars(handed)):
+            setattr(handed, name, None)
+        self.assertEqual(made.draft().told(), tuple(draft_parts()))
+
+    def test_what_is_handed_in_is_neither_changed_nor_kept(self):
+        made = hand.Hand(a_draft())
+        for deed in self.DEEDS:
+            handed = copy.deepcopy(deed[1:])
+            getattr(made, deed[0])(*handed)
+            self.assertEqual(handed, deed[1:])
+            before = made.draft().told()
+            changed_within(handed)
+            self.assertEqual(made.draft().told(), before)
+            self.assertEqual(made.cloth().told(), weaving.woven(draft.Draft(*before)).told())
+
+    def test_what_is_told_is_the_askers_own(self):
+        # Two hands do the same deeds; what the one tells is changed each time.
+        one, other = hand.Hand(a_draft()), hand.Hand(a_draft())
+        kept = []
+        for deed in self.DEEDS + (("undo",),) * 7:
+            told = getattr(one, deed[0])(*copy.deepcopy(deed[1:]))
+            wanted = getattr(other, deed[0])(*copy.deepcopy(deed[1:]))
+            self.assertEqual(told, wanted, deed)
+            changed_within(told)
+            changed_within(one.draft())
+            changed_within(one.cloth())
+            self.assertEqual(one.draft().told(), other.draft().told())
+            self.assertEqual(one.cloth().told(), other.cloth().told())
+            kept.append((wanted, copy.deepcopy(wanted)))
+        for told, before in kept:
+            self.assertEqual(told, before)
+        self.assertEqual(one.draft().told(), tuple(draft_parts()))
+
+    def test_drafts_and_cloths_that_were_told_stay(self):
+        made = hand.Hand(a_draft())
+        self.assertIsNot(made.draft(), made.draft())
+        self.assertIsNot(made.cloth(), made.cloth())
+        told_draft, told_cloth = made.draft(), made.cloth()
+        wanted = weaving.woven(a_draft()).told()
+        for deed in self.DEEDS:
+            getattr(made, deed[0])(*copy.deepcopy(deed[1:]))
+        self.assertEqual(told_draft.told(), tuple(draft_parts()))
+        self.assertEqual(told_cloth.told(), wanted)
+
+    def test_changes_of_a_told_draft_do_not_reach_the_hand(self):
+        made = hand.Hand(a_draft())
+        told = made.draft()
+        for name in list(vars(told)):
+            setattr(told, name, None)
+        self.assertEqual(made.draft().told(), tuple(draft_parts()))
+        made.thread(1, 3)
+        made.undo()
+        self.assertEqual(made.draft().told(), tuple(draft_parts()))
+
+    def test_what_is_refused_changes_nothing(self):
+        made = hand.Hand(a_draft())
+        made.thread(1, 3)
+        before = made.draft().told()
+        for deed in self.WRONG:
+            handed = copy.deepcopy(deed[1:])
+            with self.assertRaises((BadDraft, OutOfPlace)):
+                getattr(made, deed[0])(*handed)
+            self.assertEqual(handed, deed[1:])
+            self.assertEqual(made.draft().told(), before)
+        self.assertEqual(made.undo(), ([], [1]))
+        self.assertEqual(made.draft().told(), tuple(draft_parts()))
+
+
+class Desks(unittest.TestCase):
+    def test_questions_change_nothing(self):
+        made = desk.Desk(drafttext.draft_text(a_draft()))
+        lines = ("draft", "cloth", "seen", "hangs", "layers", "faults ###", "faults #.# / .#. / ...", "x", "thread 9 9", "undo")
+        told = [made.say(line) for line in lines]
+        for _ in range(3):
+            self.assertEqual([made.say(line) for line in lines], told)
+
+    def test_what_is_handed_in_stays(self):
+        made = desk.Desk(drafttext.draft_text(a_draft()))
+        for thing in (["draft", ["undo"]], [], ("thread", [1], [2])):
+            handed = copy.deepcopy(thing)
+            self.assertEqual(made.say(handed), "no line")
+            self.assertEqual(handed, thing)
