@@ -1,6 +1,5 @@
 """Cloths woven at once, one above the other, and cloths taken apart."""
 
-from loomwright.bounds import MOST_ENDS, MOST_PICKS
 from loomwright.cloth import Cloth
 from loomwright.errors import BadCloth
 from loomwright.hanging import END, PICK
@@ -15,8 +14,6 @@ def need_at_once(cloths):
     picks = cloths[0].picks()
     if not all([cloth.ends() == ends and cloth.picks() == picks for cloth in cloths]):
         raise BadCloth("cloths that are woven at once are of like sizes")
-    if ends * len(cloths) > MOST_ENDS or picks * len(cloths) > MOST_PICKS:
-        raise BadCloth("a cloth has at most 60 ends and 60 picks")
 
 
 # The ends of the cloth at a place among so many that are up, where a pick of the cloth at own crosses them.
@@ -38,6 +35,7 @@ def whole_row(cloths, pick, own):
     ])
 
 
+# What comes to more than sixty ends or picks the whole itself refuses to be.
 def woven_at_once(cloths):
     need_at_once(cloths)
     rows = []

@@ -1,6 +1,5 @@
 """Cloths grown from a plan by two blocks, and the plan found again."""
 
-from loomwright.bounds import MOST_ENDS, MOST_PICKS
 from loomwright.cloth import Cloth
 from loomwright.errors import BadCloth, NotGrown
 from loomwright.masks import mask_of, mask_to, union_of
@@ -18,11 +17,10 @@ def grown_row(plan, pick, on_row, off_row, wide):
     ])
 
 
+# What comes to more than sixty ends or picks the grown cloth itself refuses to be.
 def grown_by(plan, on, off):
     need_like_sizes(on, off)
     wide = on.ends()
-    if plan.ends() * wide > MOST_ENDS or plan.picks() * on.picks() > MOST_PICKS:
-        raise BadCloth("a cloth has at most 60 ends and 60 picks")
     rows = []
     for pick in range(1, plan.picks() + 1):
         rows.extend([grown_row(plan, pick, on_row, off_row, wide) for on_row, off_row in zip(on.rows, off.rows)])

@@ -79,20 +79,13 @@ def listed_numbers(words):
     return None if len(numbers) == 0 or None in numbers else numbers
 
 
-def tie_answer(hand, words):
-    treadle = number_of(words[0])
-    shafts = listed_numbers(words[1:])
-    if treadle is None or shafts is None:
+# deed: a closure that is handed the number of a place and the numbers that are put there.
+def list_answer(words, deed):
+    place = number_of(words[0])
+    numbers = listed_numbers(words[1:])
+    if place is None or numbers is None:
         return NO_LINE
-    return deed_words(hand.tie(treadle, shafts))
-
-
-def tread_answer(hand, words):
-    pick = number_of(words[0])
-    treadles = listed_numbers(words[1:])
-    if pick is None or treadles is None:
-        return NO_LINE
-    return deed_words(hand.tread(pick, treadles))
+    return deed_words(deed(place, numbers))
 
 
 # The words are those behind the deed's name, one at least.
@@ -100,9 +93,9 @@ def deed_answer(hand, name, words):
     if name == "thread":
         return thread_answer(hand, words)
     if name == "tie":
-        return tie_answer(hand, words)
+        return list_answer(words, lambda treadle, shafts: hand.tie(treadle, shafts))
     if name == "tread":
-        return tread_answer(hand, words)
+        return list_answer(words, lambda pick, treadles: hand.tread(pick, treadles))
     return NO_LINE
 
 

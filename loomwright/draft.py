@@ -92,3 +92,8 @@ def changed_draft(draft, changes):
         parts["warp"],
         parts["weft"],
     )
+
+
+# The shafts from least to most that aren't among those left out.
+def shafts_but(left_out, least, most):
+    return [shaft for shaft in range(least, most + 1) if shaft not in left_out]

@@ -1,6 +1,6 @@
 """Drafts turned, so that they weave the cloths turned."""
 
-from loomwright.draft import Draft, changed_draft
+from loomwright.draft import Draft, changed_draft, shafts_but
 from loomwright.errors import NotPlain
 
 
@@ -22,13 +22,9 @@ def need_plain(draft):
             raise NotPlain("pick", pick)
 
 
-def other_shafts(tie, shafts):
-    return [shaft for shaft in range(1, shafts + 1) if shaft not in tie]
-
-
 def inverted_draft(draft):
     need_plain(draft)
-    return changed_draft(draft, {"ties": [other_shafts(tie, draft.shafts) for tie in draft.ties]})
+    return changed_draft(draft, {"ties": [shafts_but(tie, 1, draft.shafts) for tie in draft.ties]})
 
 
 def treadles_without(ties, shaft):

@@ -1,5 +1,6 @@
 """The faults that a draft's loom can have, and those by which it weaves a cloth."""
 
+from loomwright.draft import shafts_but
 from loomwright.gear import BROKEN, DOWN, DRAWN, LOOSE, TIED, UP, Gear
 from loomwright.words import is_whole
 
@@ -8,37 +9,21 @@ def lone_faults(kind, most):
     return [(kind, number) for number in range(1, most + 1)]
 
 
-# Of one treadle, or of one end; the shafts are those of which it has the fault.
-def shaft_faults(kind, number, shafts):
-    return [(kind, number, shaft) for shaft in shafts]
-
-
-def loose_faults(draft):
+# lists: for each treadle or end, the first one first, the shafts of which it has the fault.
+def shaft_faults(kind, lists):
     faults = []
-    for treadle, tie in enumerate(draft.ties, start=1):
-        faults.extend(shaft_faults(LOOSE, treadle, tie))
-    return faults
-
-
-def tied_faults(draft):
-    faults = []
-    for treadle, tie in enumerate(draft.ties, start=1):
-        untied = [shaft for shaft in range(1, draft.shafts + 1) if shaft not in tie]
-        faults.extend(shaft_faults(TIED, treadle, untied))
-    return faults
-
-
-def drawn_faults(draft):
-    faults = []
-    for end, drawn in enumerate(draft.threading, start=1):
-        others = [shaft for shaft in range(draft.shafts + 1) if shaft != drawn]
-        faults.extend(shaft_faults(DRAWN, end, others))
+    for number, shafts in enumerate(lists, start=1):
+        faults.extend([(kind, number, shaft) for shaft in shafts])
     return faults
 
 
 def all_faults(draft):
-    faults = lone_faults(UP, draft.shafts) + lone_faults(DOWN, draft.shafts) + lone_faults(BROKEN, draft.ends())
-    return faults + loose_faults(draft) + tied_faults(draft) + drawn_faults(draft)
+    shafts = draft.shafts
+    faults = lone_faults(UP, shafts) + lone_faults(DOWN, shafts) + lone_faults(BROKEN, draft.ends())
+    faults.extend(shaft_faults(LOOSE, draft.ties))
+    faults.extend(shaft_faults(TIED, [shafts_but(tie, 1, shafts) for tie in draft.ties]))
+    faults.extend(shaft_faults(DRAWN, [shafts_but([drawn], 0, shafts) for drawn in draft.threading]))
+    return faults
 
 
 def is_fault(draft, thing):
