@@ -63,7 +63,7 @@ def read_tie(rows, number, shafts):
     if words == [NONE]:
         return []
     # Behind a first - it is the next word that can't stand.
-    stand = 1 if len(words) > 0 and words[0] == NONE else rising_words(words, shafts)
+    stand = 1 if words[:1] == [NONE] else rising_words(words, shafts)
     if stand < len(words) or len(words) == 0:
         raise BadRow(number, stand + 2)
     return numbers_told(words)
